@@ -3,13 +3,12 @@
 from standingwarnings.events import ACKNOWLEDGED, CALLED_BACK, CANCELLED, WAS_RESET, WENT, log_each, log_event
 from standingwarnings.refusals import FULL, NO_ROW_OF_WARNINGS, NOT_NOW, NOT_OF_THIS_KIND, NOT_SHOWN_OR_COME
 from standingwarnings.refusals import HIGHEST_PHASE, OUT_OF_RANGE, TOO_FEW_PARTS
-from standingwarnings.refusals import are_within, is_beyond_clock, is_full, is_row_of_phases, is_row_of_warnings
-from standingwarnings.refusals import is_warning, is_within
+from standingwarnings.refusals import are_within, is_full, is_row_of_phases, is_row_of_warnings, is_warning
+from standingwarnings.refusals import is_within, refusal_of_seconds
 from standingwarnings.seconds import pass_seconds
 from standingwarnings.showing import mark_shown, shown_numbers, sound, unacknowledged_numbers
 from standingwarnings.standing import StandingWarning, go
 
-LONGEST_TICK = 600
 HIGHEST_RANK = 3
 
 # cause or n; rank, on-delay, off-delay, latch
@@ -67,10 +66,9 @@ def set_phase(panel, phase):
 
 
 def tick(panel, seconds):
-    if not is_within(seconds, 1, LONGEST_TICK):
-        return [OUT_OF_RANGE]
-    if is_beyond_clock(panel, seconds):
-        return [FULL]
+    refusal = refusal_of_seconds(panel, seconds)
+    if refusal != 0:
+        return [refusal]
     pass_seconds(panel, seconds)
     return [panel.clock, len(shown_numbers(panel)), sound(panel)]
 

@@ -3,12 +3,19 @@
 from standingwarnings.calls import ack, ack_all, add_collector, add_warning, cancel
 from standingwarnings.calls import recall, reset, set_cause, set_phase, tick
 from standingwarnings.state import Panel
+from standingwarnings.telling import tell_ahead, tell_list, tell_log, tell_next, tell_page
+from standingwarnings.telling import tell_sound, tell_stand, tell_state, tell_told, tell_why
+
+FIRST_TELLING_PLACE = 10
 
 # Of each call, by its place: how many numbers and how many rows are laid behind it.
-SHAPES = ((5, 2), (5, 3), (2, 0), (1, 0), (1, 0), (1, 0), (0, 0), (1, 0), (0, 0), (1, 0))
+SHAPES = (
+    (5, 2), (5, 3), (2, 0), (1, 0), (1, 0), (1, 0), (0, 0), (1, 0), (0, 0), (1, 0),
+    (0, 0), (2, 0), (1, 0), (0, 0), (1, 0), (1, 0), (0, 0), (0, 0), (1, 0), (0, 0),
+)
 
 
-def answer_call(panel, place, numbers, rows):
+def answer_changing_call(panel, place, numbers, rows):
     if place == 0:
         return add_warning(panel, numbers, rows[0], rows[1])
     if place == 1:
@@ -28,6 +35,34 @@ def answer_call(panel, place, numbers, rows):
     if place == 8:
         return recall(panel)
     return reset(panel, numbers[0])
+
+
+def answer_telling_call(panel, place, numbers):
+    if place == 10:
+        return tell_list(panel)
+    if place == 11:
+        return tell_page(panel, numbers[0], numbers[1])
+    if place == 12:
+        return tell_why(panel, numbers[0])
+    if place == 13:
+        return tell_sound(panel)
+    if place == 14:
+        return tell_stand(panel, numbers[0])
+    if place == 15:
+        return tell_told(panel, numbers[0])
+    if place == 16:
+        return tell_log(panel)
+    if place == 17:
+        return tell_next(panel)
+    if place == 18:
+        return tell_ahead(panel, numbers[0])
+    return tell_state(panel)
+
+
+def answer_call(panel, place, numbers, rows):
+    if place < FIRST_TELLING_PLACE:
+        return answer_changing_call(panel, place, numbers, rows)
+    return answer_telling_call(panel, place, numbers)
 
 
 # Slices are copies, so what the panel keeps of them is not what was handed in.

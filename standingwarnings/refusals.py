@@ -10,6 +10,7 @@ NOT_OF_THIS_KIND = -9
 
 HIGHEST_PHASE = 9
 MOST_WARNINGS = 24
+LONGEST_TICK = 600
 LATEST_CLOCK = 1000000000
 
 
@@ -47,5 +48,10 @@ def is_full(panel):
     return len(panel.warnings) >= MOST_WARNINGS
 
 
-def is_beyond_clock(panel, seconds):
-    return panel.clock + seconds > LATEST_CLOCK
+# 0 if so many seconds may pass: to let them pass and to look ahead are refused alike.
+def refusal_of_seconds(panel, seconds):
+    if not is_within(seconds, 1, LONGEST_TICK):
+        return OUT_OF_RANGE
+    if panel.clock + seconds > LATEST_CLOCK:
+        return FULL
+    return 0

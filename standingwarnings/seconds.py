@@ -69,14 +69,20 @@ def skip_seconds(panel, seconds):
         count_seconds(panel, warning, seconds)
 
 
-# Quiet seconds are taken in one step, as long ticks would be slow otherwise.
+# Quiet seconds are taken in one step, as long ticks would be slow otherwise;
+# then the second behind them, if it is still due. Answers how many passed, at most so many.
+# So what is shown changes in the last second of a stretch alone.
+def pass_stretch(panel, most):
+    quiet = quiet_seconds(panel, most)
+    if quiet > 0:
+        skip_seconds(panel, quiet)
+    if quiet == most:
+        return most
+    pass_second(panel)
+    return quiet + 1
+
+
 def pass_seconds(panel, seconds):
     left = seconds
     while left > 0:
-        quiet = quiet_seconds(panel, left)
-        if quiet > 0:
-            skip_seconds(panel, quiet)
-            left -= quiet
-        else:
-            pass_second(panel)
-            left -= 1
+        left -= pass_stretch(panel, left)

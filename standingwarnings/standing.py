@@ -40,3 +40,20 @@ def go(warning):
     warning.has_come = False
     warning.came_at = 0
     forget_the_crew(warning)
+
+
+# The rows are never changed, so both may have the same ones.
+def copied_warning(warning):
+    twin = StandingWarning(
+        warning.cause, warning.needed, warning.rank, warning.on_delay, warning.off_delay, warning.latch,
+        warning.parts, warning.phases, warning.covers,
+    )
+    twin.seconds_on = warning.seconds_on
+    twin.seconds_off = warning.seconds_off
+    twin.has_come = warning.has_come
+    twin.came_at = warning.came_at
+    twin.acknowledged = warning.acknowledged
+    twin.cancelled = warning.cancelled
+    twin.shown_since = warning.shown_since
+    twin.times_come = warning.times_come
+    return twin

@@ -1,4 +1,7 @@
-"""What the tests share: calls laid out, a panel to look into, and a slow model of DOC.md."""
+"""What the tests share: calls laid out, drawn lines, a panel to look into, and a slow model of DOC.md."""
+
+import copy
+import random
 
 from standingwarnings.panel import answer_line, answers
 from standingwarnings.state import Panel
@@ -48,6 +51,101 @@ def recall():
 
 def reset(i):
     return [9, i]
+
+
+def list_all():
+    return [10]
+
+
+def page(n, p):
+    return [11, n, p]
+
+
+def why(i):
+    return [12, i]
+
+
+def sound():
+    return [13]
+
+
+def stand(i):
+    return [14, i]
+
+
+def told(i):
+    return [15, i]
+
+
+def log():
+    return [16]
+
+
+def next_change():
+    return [17]
+
+
+def ahead(k):
+    return [18, k]
+
+
+def state():
+    return [19]
+
+
+def some_row(draw, end, odds):
+    return [i for i in range(end) if draw.random() < odds]
+
+
+def a_delay(draw):
+    return draw.choice([0, 0, 0, 1, 2, 3, 5, 9, 40])
+
+
+def a_warning(draw, count):
+    told = dict(rank=draw.randint(1, 3), on=a_delay(draw), off=a_delay(draw), latch=int(draw.random() < 0.3),
+                phases=some_row(draw, 10, 0.2), covers=some_row(draw, count, 0.15))
+    if count and draw.random() < 0.4:
+        parts = some_row(draw, count, 0.6)
+        return collector(n=draw.randint(1, max(1, len(parts))), parts=parts, **told)
+    return warning(cause=draw.randint(0, 3), **told)
+
+
+def a_wrong_call(draw, count):
+    return draw.choice([
+        warning(cause=32), warning(rank=0), warning(phases=[3, 3]), warning(covers=[count]), warning(covers=[-1]),
+        collector(n=0, parts=[0]), collector(n=24, parts=[]), collector(n=1, parts=[count]), cause(-1, 1), cause(1, 2),
+        phase(10), tick(0), tick(601), ack(count), cancel(-1), reset(count),
+    ])
+
+
+def a_call(draw, count):
+    i = draw.randint(0, max(0, count - 1))
+    kind = draw.randint(0, 19)
+    if kind < 5:
+        return cause(draw.randint(0, 3), draw.randint(0, 1))
+    if kind < 10:
+        return tick(draw.choice([1, 1, 1, 2, 3, 7, 30]))
+    if kind == 10:
+        return phase(draw.randint(0, 9))
+    if kind == 19:
+        return a_wrong_call(draw, count)
+    if kind == 18:
+        return a_warning(draw, count)
+    return [ack(i), ack_all(), ack_all(), cancel(i), cancel(i), reset(i), recall()][kind - 11]
+
+
+def a_line(seed):
+    draw = random.Random(seed)
+    count = draw.randint(1, 24)
+    line = [a_warning(draw, i) for i in range(count)]
+    return line + [a_call(draw, count) for _ in range(draw.randint(20, 150))]
+
+
+def a_telling_call(draw, count):
+    """One of the calls 10 to 19, now and then with numbers that are refused."""
+    i = draw.randint(-1, count)
+    return draw.choice([list_all(), page(draw.randint(0, 9), draw.choice([-1, 0, 0, 1, 2, 23, 24])), why(i), sound(),
+                        stand(i), told(i), log(), next_change(), ahead(draw.choice([0, 1, 7, 60, 600, 601])), state()])
 
 
 def parted(answered):
@@ -190,6 +288,8 @@ class Model:
             if place == 0:
                 return self.add(call[1:6], [], rows[0], rows[1], True)
             return self.add(call[1:6], rows[0], rows[1], rows[2], False)
+        if place >= 10:
+            return self.tell(place, call[1:])
         if place in (6, 8):
             return self.do_all(place)
         if place in (5, 7, 9):
@@ -247,3 +347,71 @@ class Model:
             w.update(come=0, at=0, acked=0, cancelled=0, since=0)
         self.settle([(2, i)] if place == 9 else [], [({5: 4, 7: 5, 9: 7}[place], i)])
         return [0]
+
+    def tell(self, place, numbers):
+        one = [(0, len(self.all) - 1)]
+        ends = {11: [(1, 8), (0, 23)], 12: one, 14: one, 15: one, 18: [(1, 600)]}.get(place, [])
+        if len(numbers) != len(ends):
+            raise ValueError("not laid as told")
+        if [x for x, (low, high) in zip(numbers, ends) if not low <= x <= high]:
+            return [-1]
+        if place == 18 and self.clock + numbers[0] > 1000000000:
+            return [-8]
+        tellers = (self.tell_list, self.tell_page, self.tell_why, self.tell_sound, self.stand, self.tell_told,
+                   self.tell_log, self.tell_next, self.tell_ahead, self.tell_state)
+        return tellers[place - 10](*numbers)
+
+    def tell_list(self):
+        lines = [[i, self.all[i]["rank"], self.all[i]["at"], self.all[i]["acked"]] for i in self.listed()]
+        return [len(lines)] + [number for line in lines for number in line]
+
+    def tell_page(self, n, p):
+        left = self.listed()
+        pages = []
+        while left:
+            pages.append(left[:n])
+            left = left[n:]
+        return [len(pages)] + laid(pages[p] if p < len(pages) else [])
+
+    def tell_why(self, i):
+        w = self.all[i]
+        if not w["come"]:
+            return [0]
+        if i in self.shown():
+            return [1]
+        if w["cancelled"]:
+            return [2]
+        if self.phase in w["phases"] and not w["since"]:
+            return [3]
+        return [4, [c for c in range(24) if c in w["covers"] and c in self.shown()][0]]
+
+    def tell_sound(self):
+        return [self.sounds()]
+
+    def tell_told(self, i):
+        w = self.all[i]
+        return ([w[name] for name in ("cause", "n", "rank", "on", "off", "latch")]
+                + laid(w["parts"]) + laid(w["phases"]) + laid(w["covers"]))
+
+    def tell_log(self):
+        kept = self.events[-200:]
+        return [len(self.events), len(kept)] + [number for event in kept for number in event]
+
+    def tell_next(self):
+        """Stops early where all is steady: a warning is, its longest delay behind when its parts are."""
+        twin = copy.deepcopy(self)
+        steady = sum(max(w["on"], w["off"]) + 1 for w in self.all)
+        for k in range(1, min(3600, steady) + 1):
+            twin.second()
+            if twin.listed() != self.listed():
+                return [k]
+        return [0]
+
+    def tell_ahead(self, k):
+        twin = copy.deepcopy(self)
+        for _ in range(k):
+            twin.second()
+        return twin.tell_list()
+
+    def tell_state(self):
+        return [self.clock, self.phase] + laid(sorted(self.on)) + [len(self.all)]

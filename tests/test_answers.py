@@ -2,8 +2,8 @@
 
 import unittest
 
-from helper import (FAR, ack, ack_all, answers_of, cancel, cause, collector, parted, phase, recall, reset, tick,
-                    warning)
+from helper import (FAR, ack, ack_all, ahead, answers_of, cancel, cause, collector, page, parted, phase, recall, reset,
+                    stand, tick, told, warning, why)
 from standingwarnings.panel import answers
 
 ONE_OF_EACH = [
@@ -17,6 +17,16 @@ ONE_OF_EACH = [
     7, 0,
     8,
     9, 0,
+    10,
+    11, 1, 1,
+    12, 1,
+    13,
+    14, 0,
+    15, 1,
+    16,
+    17,
+    18, 600,
+    19,
 ]
 
 
@@ -24,7 +34,17 @@ class Layout(unittest.TestCase):
     def test_each_answer_stands_behind_its_length(self):
         self.assertEqual(
             answers(ONE_OF_EACH),
-            [1, 0, 1, 1, 1, 0, 1, 0, 3, 2, 1, 1, 1, 0, 1, 0, 1, 0, 1, 1, 1, -7])
+            [1, 0, 1, 1, 1, 0, 1, 0, 3, 2, 1, 1, 1, 0, 1, 0, 1, 0, 1, 1, 1, -7,
+             5, 1, 0, 2, 2, 1,
+             2, 1, 0,
+             2, 4, 0,
+             1, 0,
+             8, 2, 0, 1, 2, 1, 0, 1, 1,
+             11, 0, 1, 3, 0, 0, 0, 1, 0, 0, 1, 0,
+             23, 7, 7, 2, 1, 0, 2, 3, 0, 2, 1, 1, 2, 4, 0, 2, 3, 1, 2, 5, 0, 2, 6, 0,
+             1, 0,
+             5, 1, 0, 2, 2, 1,
+             5, 2, 5, 1, 3, 2])
 
     def test_a_refusal_stands_alone(self):
         self.assertEqual(answers([4, 0]), [1, -1])
@@ -47,7 +67,8 @@ class Layout(unittest.TestCase):
         for far in (FAR, -FAR):
             calls += [warning(cause=far), warning(rank=far), warning(on=far), warning(off=far), warning(latch=far),
                       warning(phases=[far]), collector(n=far), cause(far, 0), cause(0, far), phase(far), tick(far),
-                      ack(far), cancel(far), reset(far)]
+                      ack(far), cancel(far), reset(far), page(far, 0), page(1, far), why(far), stand(far), told(far),
+                      ahead(far)]
         self.assertEqual(answers_of(*calls), [[-1]] * len(calls))
         self.assertEqual(answers_of(warning(covers=[FAR]), warning(covers=[-FAR])), [[-4], [-4]])
 

@@ -3,58 +3,9 @@
 import random
 import unittest
 
-from helper import (Desk, Model, ack, ack_all, cancel, cause, collector, parted, phase, recall, reset, tick,
-                    warning)
-from standingwarnings.panel import answers
-from standingwarnings.showing import is_held_back, listed_numbers, shown_numbers
-
-
-def some_row(draw, end, odds):
-    return [i for i in range(end) if draw.random() < odds]
-
-
-def a_delay(draw):
-    return draw.choice([0, 0, 0, 1, 2, 3, 5, 9, 40])
-
-
-def a_warning(draw, count):
-    told = dict(rank=draw.randint(1, 3), on=a_delay(draw), off=a_delay(draw), latch=int(draw.random() < 0.3),
-                phases=some_row(draw, 10, 0.2), covers=some_row(draw, count, 0.15))
-    if count and draw.random() < 0.4:
-        parts = some_row(draw, count, 0.6)
-        return collector(n=draw.randint(1, max(1, len(parts))), parts=parts, **told)
-    return warning(cause=draw.randint(0, 3), **told)
-
-
-def a_wrong_call(draw, count):
-    return draw.choice([
-        warning(cause=32), warning(rank=0), warning(phases=[3, 3]), warning(covers=[count]), warning(covers=[-1]),
-        collector(n=0, parts=[0]), collector(n=24, parts=[]), collector(n=1, parts=[count]), cause(-1, 1), cause(1, 2),
-        phase(10), tick(0), tick(601), ack(count), cancel(-1), reset(count),
-    ])
-
-
-def a_call(draw, count):
-    i = draw.randint(0, max(0, count - 1))
-    kind = draw.randint(0, 19)
-    if kind < 5:
-        return cause(draw.randint(0, 3), draw.randint(0, 1))
-    if kind < 10:
-        return tick(draw.choice([1, 1, 1, 2, 3, 7, 30]))
-    if kind == 10:
-        return phase(draw.randint(0, 9))
-    if kind == 19:
-        return a_wrong_call(draw, count)
-    if kind == 18:
-        return a_warning(draw, count)
-    return [ack(i), ack_all(), ack_all(), cancel(i), cancel(i), reset(i), recall()][kind - 11]
-
-
-def a_line(seed):
-    draw = random.Random(seed)
-    count = draw.randint(1, 24)
-    line = [a_warning(draw, i) for i in range(count)]
-    return line + [a_call(draw, count) for _ in range(draw.randint(20, 150))]
+from helper import (Desk, Model, a_line, a_telling_call, answers_of, cause, list_all, stand, state, tick, told, warning,
+                    why)
+from standingwarnings.showing import listed_numbers, shown_numbers
 
 
 class AgainstTheModel(unittest.TestCase):
@@ -77,25 +28,56 @@ class AgainstTheModel(unittest.TestCase):
             line = a_line(seed)
             model = Model()
             wanted = [model.do(list(call)) for call in line]
-            self.assertEqual(parted(answers([number for call in line for number in call])), wanted, seed)
+            self.assertEqual(answers_of(*line), wanted, seed)
+
+    def test_all_twenty_calls(self):
+        for seed in range(500, 620):
+            draw = random.Random(seed)
+            model = Model()
+            line = []
+            wanted = []
+            for call in a_line(seed):
+                telling = [a_telling_call(draw, len(model.all))] if draw.random() < 0.5 else []
+                for one_call in [call] + telling:
+                    line.append(one_call)
+                    wanted.append(model.do(list(one_call)))
+            self.assertEqual(answers_of(*line), wanted, seed)
 
 
 class InAll(unittest.TestCase):
-    def told_reason(self, panel, shown, i):
-        one = panel.warnings[i]
-        return i in shown or one.cancelled or is_held_back(panel, one) or [c for c in one.covers if c in shown]
+    """As the calls from 10 on tell it."""
+
+    def listed(self, desk):
+        return desk.do(list_all())[1::4]
+
+    def told_rows(self, desk, i):
+        """The phases and the covers of a warning."""
+        answer = desk.do(told(i))
+        phases_at = 7 + answer[6]
+        covers_at = phases_at + 1 + answer[phases_at]
+        return answer[phases_at + 1:covers_at], answer[covers_at + 1:]
+
+    def reason_holds(self, desk, listed, i):
+        """Whether what why answers of a warning is so, by what the other calls tell."""
+        reason = desk.do(why(i))
+        stands = desk.do(stand(i))
+        phases, covers = self.told_rows(desk, i)
+        if (reason == [0]) != (stands[2] == 0) or (reason == [1]) != (i in listed):
+            return False
+        if reason == [2]:
+            return stands[5] == 1
+        if reason == [3]:
+            return stands[6] == 0 and desk.do(state())[1] in phases
+        return len(reason) == 1 or (reason[0] == 4 and reason[1] in covers and reason[1] in listed)
 
     def test_what_has_come_is_shown_or_has_a_told_reason(self):
         for seed in range(100):
             desk = Desk()
             for call in a_line(seed):
                 desk.do(call)
-                shown = shown_numbers(desk.panel)
-                for i, one in enumerate(desk.panel.warnings):
-                    if one.has_come:
-                        self.assertTrue(self.told_reason(desk.panel, shown, i), (seed, call))
-                    else:
-                        self.assertNotIn(i, shown, (seed, call))
+                listed = self.listed(desk)
+                for i in range(len(desk.panel.warnings)):
+                    self.assertTrue(self.reason_holds(desk, listed, i), (seed, call, i))
 
     def test_a_plain_one_has_come_just_if_its_cause_held(self):
         for seed in range(40):
@@ -109,7 +91,7 @@ class InAll(unittest.TestCase):
                 desk.do(cause(0, bit))
                 desk.do(tick(run))
                 held += [bit] * run
-                self.assertEqual(desk.panel.warnings[0].has_come, self.should_have_come(held, on, off))
+                self.assertEqual(desk.do(stand(0))[2], int(self.should_have_come(held, on, off)))
 
     def should_have_come(self, held, on, off):
         """Looks back: a run of more than `on` seconds on, and no longer run off than `off` behind it."""
@@ -125,12 +107,11 @@ class InAll(unittest.TestCase):
                 calls = [tick(1)] * call[1] if call[0] == 4 and 0 < call[1] <= 600 else [call]
                 for one_call in calls:
                     desk.do(one_call)
-                    shown = shown_numbers(desk.panel)
-                    for i in [i for i in before if i not in shown]:
-                        one = desk.panel.warnings[i]
-                        covered = [c for c in one.covers if c in shown]
-                        self.assertTrue(not one.has_come or one.cancelled or covered, (seed, call))
-                    before = shown
+                    listed = self.listed(desk)
+                    for i in [i for i in before if i not in listed]:
+                        self.assertIn(desk.do(why(i))[0], (0, 2, 4), (seed, call))
+                        self.assertTrue(self.reason_holds(desk, listed, i), (seed, call))
+                    before = listed
 
 
 if __name__ == "__main__":

@@ -66,6 +66,15 @@ class Language(unittest.TestCase):
                     for alias in node.names:
                         self.assertIn(alias.name, defined, (path, node.lineno))
 
+    def test_no_two_files_draw_from_one_another_l16(self):
+        drawn = {path.stem: [node.module.split(".")[-1] for node in walked(path) if isinstance(node, ast.ImportFrom)]
+                 for path in FILES}
+        settled = []
+        while len(settled) < len(drawn):
+            ready = [name for name in drawn if name not in settled and not set(drawn[name]) - set(settled)]
+            self.assertTrue(ready, sorted(set(drawn) - set(settled)))
+            settled += ready
+
     def top_names(self, path):
         names = []
         for node in ast.parse(path.read_text()).body:
